@@ -1,0 +1,1 @@
+"""Cornerpiles: cubes piled in the corner of a box."""

@@ -1,0 +1,82 @@
+"""[3]: the classes of refusals, and that a box that is none comes ahead of all else."""
+
+import unittest
+
+from cornerpiles import errors
+from cornerpiles.piles import (cubes_of, how_many_cubes, is_pile, mirrored_pile, pile_of_cubes, rest_of,
+                               rolled_pile)
+from cornerpiles.stairs import are_stairs, pile_of_stairs, stairs_of
+from cornerpiles.ways import are_ways, never_touch, pile_of_ways, ways_of
+from tests.helper import NO_BOXES, NOTHINGS, with_self
+
+NAMES = ["NoBox", "NoPile", "NoStairs", "NoWays", "NoRoad", "NoNumber", "NoPlace", "TooMany", "NoText",
+         "NoName", "NoRow"]
+
+OF_A_PILE = [cubes_of, how_many_cubes, mirrored_pile, rolled_pile, rest_of, stairs_of, ways_of]
+OF_OTHER_THINGS = [is_pile, pile_of_cubes, are_stairs, pile_of_stairs, are_ways, pile_of_ways, never_touch]
+
+
+class Classes(unittest.TestCase):
+    def test_pile_error_stands_straight_under_value_error(self):
+        self.assertEqual(errors.PileError.__bases__, (ValueError,))
+
+    def test_each_stands_straight_under_pile_error(self):
+        for name in NAMES:
+            with self.subTest(name):
+                self.assertEqual(getattr(errors, name).__bases__, (errors.PileError,))
+
+    def test_none_stands_under_another(self):
+        for name in NAMES:
+            for other in NAMES:
+                if name != other:
+                    with self.subTest(name=name, other=other):
+                        self.assertFalse(issubclass(getattr(errors, name), getattr(errors, other)))
+
+    def test_each_is_called_as_told(self):
+        for name in NAMES + ["PileError"]:
+            self.assertEqual(getattr(errors, name).__name__, name)
+
+    def test_each_is_made_with_one_text(self):
+        for name in NAMES + ["PileError"]:
+            with self.subTest(name):
+                self.assertEqual(getattr(errors, name)("some words").args, ("some words",))
+                self.assertEqual(str(getattr(errors, name)("some words")), "some words")
+
+
+class Order(unittest.TestCase):
+    def refused(self, refusal, function, box, thing):
+        with self.subTest(function=function.__name__, box=box):
+            with self.assertRaises(errors.PileError) as caught:
+                function(box, thing)
+            self.assertIs(type(caught.exception), refusal)
+            self.assertEqual([type(word) for word in caught.exception.args], [str])
+
+    def test_a_box_that_is_none_comes_ahead_of_anything(self):
+        good = [[[1]], [(0, 0, 0)], [], ["rd"], [[2, 1], [1, 0]], with_self()]
+        for function in OF_A_PILE + OF_OTHER_THINGS:
+            for box in NO_BOXES:
+                for thing in good + NOTHINGS:
+                    self.refused(errors.NoBox, function, box, thing)
+
+    def test_then_a_pile_that_is_none(self):
+        for function in OF_A_PILE:
+            for thing in NOTHINGS + [[], with_self(), [[1, 2], [0, 0]], [[1, 0], [1, 1]], [[3, 0], [0, 0]]]:
+                self.refused(errors.NoPile, function, (2, 2, 2), thing)
+
+    def test_a_pile_of_another_box_is_none(self):
+        for function in OF_A_PILE:
+            self.refused(errors.NoPile, function, (3, 2, 2), [[1, 1, 1], [1, 1, 1]])
+
+    def test_a_pile_is_refused_in_a_box_of_any_size(self):
+        for function in OF_A_PILE:
+            for thing in NOTHINGS + [with_self(), [[0]]]:
+                self.refused(errors.NoPile, function, (10 ** 39, 10 ** 39, 10 ** 39), thing)
+
+    def test_each_refusal_is_of_its_own_class(self):
+        self.refused(errors.NoPile, pile_of_cubes, (1, 1, 1), [(1, 0, 0)])
+        self.refused(errors.NoStairs, pile_of_stairs, (1, 1, 1), [[2]])
+        self.refused(errors.NoWays, pile_of_ways, (1, 1, 1), ["rr"])
+
+
+if __name__ == "__main__":
+    unittest.main()

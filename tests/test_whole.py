@@ -1,0 +1,125 @@
+"""[2] and [4]: what is handed in and told stays one's own, and all forms of a pile lead into one another."""
+
+import copy
+import unittest
+
+from cornerpiles.piles import (cubes_of, how_many_cubes, is_box, is_pile, mirrored_pile, pile_of_cubes, rest_of,
+                               rolled_pile)
+from cornerpiles.stairs import are_stairs, pile_of_stairs, stairs_of
+from cornerpiles.ways import are_ways, never_touch, pile_of_ways, ways_of
+from tests.helper import PILES_OF_SMALL_BOXES, SMALL_BOXES, all_piles, lists_within, spoil
+
+BOX = (3, 2, 3)
+PILE = [[2, 2], [2, 2], [0, 0]]
+SAME_ROW = [1, 1]
+
+QUESTIONS = [
+    (is_box, (BOX,)),
+    (is_box, ([1, 2, 3],)),
+    (is_pile, (BOX, PILE)),
+    (cubes_of, (BOX, PILE)),
+    (how_many_cubes, (BOX, PILE)),
+    (pile_of_cubes, (BOX, [(0, 1, 0), (0, 0, 0), (0, 1, 0)])),
+    (pile_of_cubes, (BOX, [])),
+    (mirrored_pile, (BOX, PILE)),
+    (rolled_pile, (BOX, PILE)),
+    (rest_of, (BOX, PILE)),
+    (stairs_of, (BOX, PILE)),
+    (are_stairs, (BOX, [[2, 2, 0], [2, 2, 0], [0, 0, 0]])),
+    (pile_of_stairs, (BOX, [[2, 2, 0], [2, 2, 0], [0, 0, 0]])),
+    (ways_of, (BOX, PILE)),
+    (are_ways, (BOX, ["drrdd", "drrdd", "dddrr"])),
+    (pile_of_ways, (BOX, ["drrdd", "drrdd", "dddrr"])),
+    (never_touch, (BOX, ["drrdd", "drrdd", "dddrr"])),
+    (cubes_of, (BOX, [SAME_ROW, SAME_ROW, SAME_ROW])),
+    (mirrored_pile, (BOX, [SAME_ROW, SAME_ROW, SAME_ROW])),
+    (rolled_pile, (BOX, [SAME_ROW, SAME_ROW, SAME_ROW])),
+    (rest_of, (BOX, [SAME_ROW, SAME_ROW, SAME_ROW])),
+    (stairs_of, (BOX, [SAME_ROW, SAME_ROW, SAME_ROW])),
+    (pile_of_stairs, ((2, 2, 3), [SAME_ROW, SAME_ROW, SAME_ROW])),
+]
+
+REFUSED = [
+    (cubes_of, (BOX, [[1, 2], [0, 0], [0, 0]])),
+    (pile_of_cubes, (BOX, [(0, 0, 0), (0, 0, 2)])),
+    (pile_of_stairs, (BOX, [[1, 1, 2], [0, 0, 0], [0, 0, 0]])),
+    (pile_of_ways, (BOX, ["dddrr", "drrdd", "drrdd"])),
+    (rest_of, ([3, 2, 3], PILE)),
+]
+
+
+class OnesOwn(unittest.TestCase):
+    def test_what_is_handed_in_is_as_it_was(self):
+        for function, arguments in QUESTIONS:
+            with self.subTest(function.__name__):
+                before = copy.deepcopy(arguments)
+                function(*arguments)
+                self.assertEqual(arguments, before)
+
+    def test_what_is_refused_changes_nothing(self):
+        for function, arguments in REFUSED:
+            with self.subTest(function.__name__):
+                before = copy.deepcopy(arguments)
+                with self.assertRaises(ValueError):
+                    function(*arguments)
+                self.assertEqual(arguments, before)
+
+    def test_no_two_lists_told_are_one_nor_one_handed_in(self):
+        for function, arguments in QUESTIONS:
+            with self.subTest(function.__name__):
+                told = lists_within((function(*arguments), function(*arguments)))
+                handed = {id(part) for part in lists_within(arguments)}
+                self.assertEqual(len({id(part) for part in told}), len(told))
+                self.assertFalse(any(id(part) in handed for part in told))
+
+    def test_what_is_done_to_an_answer_changes_nothing(self):
+        for function, arguments in QUESTIONS:
+            with self.subTest(function.__name__):
+                before = copy.deepcopy(arguments)
+                answer = function(*arguments)
+                kept = copy.deepcopy(answer)
+                spoil(answer)
+                self.assertEqual(arguments, before)
+                self.assertEqual(function(*arguments), kept)
+
+    def test_what_is_done_to_things_handed_in_changes_no_answer(self):
+        for function, arguments in QUESTIONS:
+            with self.subTest(function.__name__):
+                handed = copy.deepcopy(arguments)
+                answer = function(*handed)
+                kept = copy.deepcopy(answer)
+                for part in lists_within(handed):
+                    part.clear()
+                self.assertEqual(answer, kept)
+
+
+class OneToOne(unittest.TestCase):
+    def test_there_and_back(self):
+        for box, many in zip(SMALL_BOXES, PILES_OF_SMALL_BOXES):
+            piles = all_piles(box)
+            self.assertEqual(len(piles), many)
+            told = {}
+            for pile in piles:
+                cubes, stairs, ways = cubes_of(box, pile), stairs_of(box, pile), ways_of(box, pile)
+                self.assertTrue(is_pile(box, pile) and are_stairs(box, stairs) and are_ways(box, ways))
+                self.assertEqual(pile_of_cubes(box, cubes), pile)
+                self.assertEqual(pile_of_stairs(box, stairs), pile)
+                self.assertEqual(pile_of_ways(box, ways), pile)
+                self.assertEqual(stairs_of(box, pile_of_ways(box, ways)), stairs)
+                self.assertEqual(ways_of(box, pile_of_stairs(box, stairs)), ways)
+                for form in ("cubes", cubes), ("stairs", stairs), ("ways", ways):
+                    told[repr(form)] = pile
+            self.assertEqual(len(told), 3 * many)
+
+    def test_in_the_greatest_box(self):
+        box = (6, 6, 6)
+        pile = [[max(0, 6 - i - j) for j in range(6)] for i in range(6)]
+        self.assertEqual(pile_of_cubes(box, cubes_of(box, pile)), pile)
+        self.assertEqual(pile_of_stairs(box, stairs_of(box, pile)), pile)
+        self.assertEqual(pile_of_ways(box, ways_of(box, pile)), pile)
+        self.assertEqual(ways_of(box, pile)[0], "rdrdrdrdrdrd")
+        self.assertEqual(how_many_cubes(box, pile), 56)
+
+
+if __name__ == "__main__":
+    unittest.main()
