@@ -1,4 +1,4 @@
-"""The package keeps to the part of Python that LANGUAGE.md tells: the rules that can be seen in a file's tree."""
+"""The package keeps to the part of Python that LANGUAGE.md tells: those of its rules that are judged easily here."""
 
 import ast
 import builtins
