@@ -69,3 +69,32 @@ def spoil(thing):
         part.reverse()
         part.append("spoilt")
         part[0] = -7
+
+
+def empty_pile(box):
+    return [[0] * box[1] for i in range(box[0])]
+
+
+def full_pile(box):
+    return [[box[2]] * box[1] for i in range(box[0])]
+
+
+def below(pile, other):
+    return all(height <= greater for row, above in zip(pile, other) for height, greater in zip(row, above))
+
+
+def piles_between(piles, low, high):
+    return [pile for pile in piles if below(low, pile) and below(pile, high)]
+
+
+def all_places(box):
+    return [(i, j) for i in range(box[0]) for j in range(box[1])]
+
+
+def refusal_of(function, *arguments):
+    """The class of the refusal that this asking meets, or None."""
+    try:
+        function(*arguments)
+    except ValueError as error:
+        return type(error)
+    return None

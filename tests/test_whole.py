@@ -1,10 +1,18 @@
-"""[2] and [4]: what is handed in and told stays one's own, and all forms of a pile lead into one another."""
+"""[2] and [4]: what is handed in and told stays one's own, and all forms of a pile lead into one another.
+
+That no road is shorter, that the counts are one number, that numbers and piles lead to each other and that the shares
+are those of all piles gone through is tested with each of these.
+"""
 
 import copy
 import unittest
 
+from cornerpiles.between import bounds_with, how_many_between, nth_between, number_between
+from cornerpiles.counts import by_cubes, by_cubes_product, count_by_product, count_by_rows, count_by_ways
+from cornerpiles.moves import fewest_moved, lies_below, may_move, pile_above, pile_below, road_end, road_to
 from cornerpiles.piles import (cubes_of, how_many_cubes, is_box, is_pile, mirrored_pile, pile_of_cubes, rest_of,
                                rolled_pile)
+from cornerpiles.shares import cube_share, mean_cubes, mean_height
 from cornerpiles.stairs import are_stairs, pile_of_stairs, stairs_of
 from cornerpiles.ways import are_ways, never_touch, pile_of_ways, ways_of
 from tests.helper import PILES_OF_SMALL_BOXES, SMALL_BOXES, all_piles, lists_within, spoil
@@ -12,6 +20,10 @@ from tests.helper import PILES_OF_SMALL_BOXES, SMALL_BOXES, all_piles, lists_wit
 BOX = (3, 2, 3)
 PILE = [[2, 2], [2, 2], [0, 0]]
 SAME_ROW = [1, 1]
+SAME_ROWS = [SAME_ROW, SAME_ROW, SAME_ROW]
+OTHER = [[3, 3], [2, 1], [1, 1]]
+LOW = [[1, 1], [1, 0], [0, 0]]
+HIGH = [[3, 3], [2, 2], [2, 2]]
 
 QUESTIONS = [
     (is_box, (BOX,)),
@@ -37,6 +49,45 @@ QUESTIONS = [
     (rest_of, (BOX, [SAME_ROW, SAME_ROW, SAME_ROW])),
     (stairs_of, (BOX, [SAME_ROW, SAME_ROW, SAME_ROW])),
     (pile_of_stairs, ((2, 2, 3), [SAME_ROW, SAME_ROW, SAME_ROW])),
+    (may_move, (BOX, PILE)),
+    (fewest_moved, (BOX, PILE, OTHER)),
+    (road_end, (BOX, PILE, [])),
+    (road_end, (BOX, PILE, [(1, 0, 0), (-1, 1, 1)])),
+    (road_end, (BOX, SAME_ROWS, [])),
+    (road_end, (BOX, SAME_ROWS, [(1, 0, 0), (1, 0, 0)])),
+    (road_to, (BOX, PILE, OTHER)),
+    (road_to, (BOX, PILE, PILE)),
+    (road_to, (BOX, SAME_ROWS, PILE)),
+    (pile_below, (BOX, PILE, OTHER)),
+    (pile_below, (BOX, PILE, PILE)),
+    (pile_below, (BOX, SAME_ROWS, SAME_ROWS)),
+    (pile_below, (BOX, LOW, HIGH)),
+    (pile_above, (BOX, PILE, OTHER)),
+    (pile_above, (BOX, PILE, PILE)),
+    (pile_above, (BOX, SAME_ROWS, SAME_ROWS)),
+    (pile_above, (BOX, LOW, HIGH)),
+    (lies_below, (BOX, LOW, HIGH)),
+    (count_by_rows, (BOX,)),
+    (count_by_ways, (BOX,)),
+    (count_by_product, (BOX,)),
+    (by_cubes, (BOX,)),
+    (by_cubes, ((1, 1, 1),)),
+    (by_cubes_product, (BOX,)),
+    (by_cubes_product, ((1, 1, 1),)),
+    (how_many_between, (BOX, LOW, HIGH)),
+    (nth_between, (BOX, LOW, HIGH, 0)),
+    (nth_between, (BOX, LOW, HIGH, 5)),
+    (nth_between, (BOX, SAME_ROWS, SAME_ROWS, 0)),
+    (nth_between, ((1, 2, 3), [[2, 1]], [[2, 1]], 0)),
+    (number_between, (BOX, LOW, HIGH, PILE)),
+    (number_between, (BOX, SAME_ROWS, SAME_ROWS, SAME_ROWS)),
+    (bounds_with, (BOX, [])),
+    (bounds_with, (BOX, [(0, 1, 2), (2, 0, 1), (0, 1, 2)])),
+    (bounds_with, (BOX, [(2, 1, 3)])),
+    (bounds_with, (BOX, [(0, 0, 1), (1, 0, 2)])),
+    (cube_share, (BOX, LOW, HIGH, (1, 1, 0))),
+    (mean_height, (BOX, LOW, HIGH, 1, 1)),
+    (mean_cubes, (BOX, LOW, HIGH)),
 ]
 
 REFUSED = [
@@ -45,6 +96,14 @@ REFUSED = [
     (pile_of_stairs, (BOX, [[1, 1, 2], [0, 0, 0], [0, 0, 0]])),
     (pile_of_ways, (BOX, ["dddrr", "drrdd", "drrdd"])),
     (rest_of, ([3, 2, 3], PILE)),
+    (road_end, (BOX, PILE, [(1, 0, 0), (1, 0, 0)])),
+    (road_end, (BOX, PILE, [(-1, 1, 1), (2, 0, 0)])),
+    (nth_between, (BOX, LOW, HIGH, 10 ** 39)),
+    (number_between, (BOX, LOW, PILE, OTHER)),
+    (bounds_with, (BOX, [(0, 0, 4), (0, 0, 1)])),
+    (bounds_with, (BOX, [(3, 0, 0), (0, 0, 1)])),
+    (cube_share, (BOX, HIGH, LOW, (0, 0, 0))),
+    (mean_height, (BOX, LOW, HIGH, 3, 0)),
 ]
 
 
