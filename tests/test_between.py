@@ -184,8 +184,8 @@ class Bounds(unittest.TestCase):
         self.assertIs(refusal_of(bounds_with, (10 ** 39, 10 ** 39, 10 ** 39), [(0, 0, -1)]), NoNumber)
 
     def test_no_place_wherever_it_stands_is_ahead_of_no_number(self):
-        for heights in [[(0, 0, 5), (2, 0, 1)], [(2, 0, 1), (0, 0, 5)], [(2, 0, 5)], [(0, 0, -1), (0, 0, 5), (0, -1, 0)],
-                        [(0, 0, 5)] * 999 + [(0, 3, 1)]]:
+        for heights in [[(0, 0, 5), (2, 0, 1)], [(2, 0, 1), (0, 0, 5)], [(2, 0, 5)],
+                        [(0, 0, -1), (0, 0, 5), (0, -1, 0)], [(0, 0, 5)] * 999 + [(0, 3, 1)]]:
             self.assertIs(refusal_of(bounds_with, BOX, heights), NoPlace)
 
     def test_refused_ahead_of_none(self):
