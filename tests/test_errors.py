@@ -5,21 +5,26 @@ import unittest
 from cornerpiles import errors
 from cornerpiles.between import bounds_with, how_many_between, nth_between, number_between
 from cornerpiles.counts import by_cubes, by_cubes_product, count_by_product, count_by_rows, count_by_ways
+from cornerpiles.forms import (alike_in_form, forms_of, how_many_even, how_many_round, how_many_whole, is_even,
+                               is_round, is_whole)
 from cornerpiles.moves import fewest_moved, lies_below, may_move, pile_above, pile_below, road_end, road_to
 from cornerpiles.piles import (cubes_of, how_many_cubes, is_pile, mirrored_pile, pile_of_cubes, rest_of,
                                rolled_pile)
 from cornerpiles.shares import cube_share, mean_cubes, mean_height
 from cornerpiles.stairs import are_stairs, pile_of_stairs, stairs_of
+from cornerpiles.texts import picture, read_box, read_pile, show_box, show_pile
 from cornerpiles.ways import are_ways, never_touch, pile_of_ways, ways_of
 from tests.helper import NO_BOXES, NOTHINGS, with_self
 
 NAMES = ["NoBox", "NoPile", "NoStairs", "NoWays", "NoRoad", "NoNumber", "NoPlace", "TooMany", "NoText",
          "NoName", "NoRow"]
 
-OF_A_PILE = [cubes_of, how_many_cubes, mirrored_pile, rolled_pile, rest_of, stairs_of, ways_of, may_move]
+OF_A_PILE = [cubes_of, how_many_cubes, mirrored_pile, rolled_pile, rest_of, stairs_of, ways_of, may_move, is_even,
+             is_whole, is_round, forms_of, show_pile, picture]
 OF_OTHER_THINGS = [is_pile, pile_of_cubes, are_stairs, pile_of_stairs, are_ways, pile_of_ways, never_touch,
-                   bounds_with]
-OF_A_BOX = [count_by_rows, count_by_ways, count_by_product, by_cubes, by_cubes_product]
+                   bounds_with, read_pile]
+OF_A_BOX = [count_by_rows, count_by_ways, count_by_product, by_cubes, by_cubes_product, how_many_even,
+            how_many_whole, how_many_round, show_box]
 OF_TWO_PILES = [fewest_moved, road_to, pile_below, pile_above, lies_below, how_many_between, mean_cubes]
 
 # What is handed in behind the box: piles, then things that are refused on their own.
@@ -125,6 +130,29 @@ class Order(unittest.TestCase):
                     self.refused(errors.NoBox, function, (2, 2, 0), *changed, *others)
             for box in NO_BOXES:
                 self.refused(errors.NoBox, function, box, *piles, *others)
+
+    def test_of_two_boxes_either_comes_ahead_of_both_piles(self):
+        for box in NO_BOXES:
+            for pile, other in [(PILE, LOWER), (PILE, None), (None, LOWER), ([], "")]:
+                self.refused(errors.NoBox, alike_in_form, box, pile, (2, 2, 2), other)
+                self.refused(errors.NoBox, alike_in_form, (2, 2, 2), pile, box, other)
+                self.refused(errors.NoBox, alike_in_form, box, pile, box, other)
+
+    def test_either_of_two_piles_in_two_boxes_may_be_none(self):
+        for thing in NOTHINGS + NO_PILES:
+            self.refused(errors.NoPile, alike_in_form, (2, 2, 2), thing, (1, 2, 1), [[1, 0]])
+            self.refused(errors.NoPile, alike_in_form, (1, 2, 1), [[1, 0]], (2, 2, 2), thing)
+            self.refused(errors.NoPile, alike_in_form, (2, 2, 2), thing, (2, 2, 2), thing)
+        self.refused(errors.NoPile, alike_in_form, (1, 2, 1), [[1], [0]], (2, 1, 1), [[1], [0]])
+        self.refused(errors.NoPile, alike_in_form, (1, 2, 1), [[1, 0]], (2, 1, 1), [[1, 0]])
+
+    def test_too_many_and_no_text_stand_behind_no_box(self):
+        for count in [how_many_even, how_many_whole, how_many_round]:
+            self.refused(errors.TooMany, count, (6, 6, 6))
+            self.refused(errors.NoBox, count, (60, 60, 0))
+        self.refused(errors.NoText, read_pile, (2, 2, 2), "2 1/1 0/0 0")
+        self.refused(errors.NoBox, read_pile, (2, 2, 0), "2 1/1 0/0 0")
+        self.refused(errors.NoText, read_box, "2x2x0")
 
     def test_each_refusal_is_of_its_own_class(self):
         self.refused(errors.NoPile, pile_of_cubes, (1, 1, 1), [(1, 0, 0)])

@@ -22,6 +22,12 @@ WORDS_NOT_USED = set("""type typing typing_extensions enum Enum IntEnum StrEnum 
 
 PARTS_NOT_USED = ["dataclass", "overload", "contextmanager"]
 
+VALUES_NOT_USED = {"sort", "args", "encode", "format", "mro", "elements", "register", "open", "input"}
+
+# What is walked on the spot, and what walks it.
+WALKED = ["zip", "enumerate", "reversed", "range", "items", "keys", "values"]
+WALKERS = ["list", "tuple", "dict", "sorted", "sum", "any", "all", "enumerate", "zip", "min", "max"]
+
 METHODS_WITH_UNDERSCORES = ["__init__", "__eq__", "__repr__", "__str__", "__len__"]
 
 NODES = set("""Module ImportFrom alias FunctionDef arguments arg ClassDef Lambda Assign AugAssign If While For Return
@@ -128,7 +134,7 @@ class Names(unittest.TestCase):
                 self.assertIsInstance(node.ctx, ast.Load, (stem, node.lineno))
         for stem, node in walk_all((ast.arg, ast.FunctionDef, ast.ClassDef)):
             name = node.arg if isinstance(node, ast.arg) else node.name
-            self.assertFalse(hasattr(builtins, name), (stem, node.lineno))
+            self.assertFalse(hasattr(builtins, name) and name not in METHODS_WITH_UNDERSCORES, (stem, node.lineno))
 
     def test_no_local_is_called_like_an_import_or_a_class_of_its_file(self):
         for stem, tree in FILES.items():
@@ -146,6 +152,49 @@ class Names(unittest.TestCase):
         for stem, node in walk_all(ast.Call):
             if isinstance(node.func, ast.Attribute):
                 self.assertIn(node.func.attr, OWN_METHODS | own, (stem, node.lineno))
+
+
+    def test_no_name_is_a_method_and_a_value(self):
+        methods = {part.name for stem, node in walk_all(ast.ClassDef) for part in node.body
+                   if isinstance(part, ast.FunctionDef)}
+        for stem, node in walk_all(ast.Attribute):
+            if isinstance(node.ctx, ast.Store):
+                self.assertNotIn(node.attr, methods | OWN_METHODS | VALUES_NOT_USED, (stem, node.lineno))
+
+    def test_each_name_of_a_files_top_is_bound_once(self):
+        for stem, tree in FILES.items():
+            bound = [part.name for part in tree.body if isinstance(part, (ast.FunctionDef, ast.ClassDef))]
+            bound += [part.targets[0].id for part in tree.body if isinstance(part, ast.Assign)]
+            bound += [name.name for part in tree.body if isinstance(part, ast.ImportFrom) for name in part.names]
+            self.assertEqual(len(set(bound)), len(bound), stem)
+
+
+class Kept(unittest.TestCase):
+    def test_values_of_a_files_top_are_plain_and_hold_no_list(self):
+        for stem, tree in FILES.items():
+            for part in tree.body:
+                self.assertIsInstance(part, (ast.Expr, ast.ImportFrom, ast.FunctionDef, ast.ClassDef, ast.Assign), stem)
+                if isinstance(part, ast.Assign):
+                    inner = [node for child in ast.iter_child_nodes(part.value) for node in ast.walk(child)]
+                    for node in inner:
+                        self.assertIsInstance(node, (ast.Constant, ast.Name, ast.Tuple, ast.Load), (stem, part.lineno))
+
+    def test_walked_at_once(self):
+        for stem, tree in FILES.items():
+            allowed = set()
+            for node in ast.walk(tree):
+                if isinstance(node, (ast.For, ast.comprehension)):
+                    allowed.add(node.iter)
+                elif isinstance(node, ast.Call) and isinstance(node.func, ast.Name) and node.func.id in WALKERS:
+                    allowed.update(node.args[:1])
+            for node in ast.walk(tree):
+                if isinstance(node, ast.Call) and getattr(node.func, "id", getattr(node.func, "attr", "")) in WALKED:
+                    self.assertIn(node, allowed, (stem, node.lineno))
+
+    def test_no_error_of_pythons_own_is_taken(self):
+        own = [node.name for stem, node in walk_all(ast.ClassDef)]
+        for stem, node in walk_all(ast.ExceptHandler):
+            self.assertIn(node.type.id, own, (stem, node.lineno))
 
 
 class Imports(unittest.TestCase):

@@ -9,11 +9,15 @@ import unittest
 
 from cornerpiles.between import bounds_with, how_many_between, nth_between, number_between
 from cornerpiles.counts import by_cubes, by_cubes_product, count_by_product, count_by_rows, count_by_ways
+from cornerpiles.desk import Desk
+from cornerpiles.forms import (alike_in_form, forms_of, how_many_even, how_many_round, how_many_whole, is_even,
+                               is_round, is_whole)
 from cornerpiles.moves import fewest_moved, lies_below, may_move, pile_above, pile_below, road_end, road_to
 from cornerpiles.piles import (cubes_of, how_many_cubes, is_box, is_pile, mirrored_pile, pile_of_cubes, rest_of,
                                rolled_pile)
 from cornerpiles.shares import cube_share, mean_cubes, mean_height
 from cornerpiles.stairs import are_stairs, pile_of_stairs, stairs_of
+from cornerpiles.texts import picture, read_box, read_pile, show_box, show_pile
 from cornerpiles.ways import are_ways, never_touch, pile_of_ways, ways_of
 from tests.helper import PILES_OF_SMALL_BOXES, SMALL_BOXES, all_piles, lists_within, spoil
 
@@ -88,6 +92,25 @@ QUESTIONS = [
     (cube_share, (BOX, LOW, HIGH, (1, 1, 0))),
     (mean_height, (BOX, LOW, HIGH, 1, 1)),
     (mean_cubes, (BOX, LOW, HIGH)),
+    (is_even, ((2, 2, 2), [SAME_ROW, SAME_ROW])),
+    (is_whole, ((2, 2, 2), [SAME_ROW, SAME_ROW])),
+    (is_round, ((2, 2, 2), [SAME_ROW, SAME_ROW])),
+    (how_many_even, ((2, 2, 3),)),
+    (how_many_whole, ((2, 2, 3),)),
+    (how_many_round, ((2, 2, 2),)),
+    (forms_of, (BOX, PILE)),
+    (forms_of, (BOX, SAME_ROWS)),
+    (forms_of, ((2, 2, 2), [[0, 0], [0, 0]])),
+    (forms_of, ((2, 2, 2), [SAME_ROW, SAME_ROW])),
+    (forms_of, ((1, 1, 1), [[1]])),
+    (alike_in_form, (BOX, PILE, (2, 3, 3), [[2, 2, 0], [2, 2, 0]])),
+    (alike_in_form, (BOX, SAME_ROWS, BOX, SAME_ROWS)),
+    (show_pile, (BOX, PILE)),
+    (show_box, (BOX,)),
+    (picture, (BOX, PILE)),
+    (read_pile, (BOX, "3 3/3 3/3 3")),
+    (read_pile, ((1, 1, 1), "0")),
+    (read_box, ("3x2x3",)),
 ]
 
 REFUSED = [
@@ -104,6 +127,12 @@ REFUSED = [
     (bounds_with, (BOX, [(3, 0, 0), (0, 0, 1)])),
     (cube_share, (BOX, HIGH, LOW, (0, 0, 0))),
     (mean_height, (BOX, LOW, HIGH, 3, 0)),
+    (how_many_even, ((6, 6, 6),)),
+    (alike_in_form, (BOX, PILE, (2, 3, 3), PILE)),
+    (forms_of, (BOX, [[2, 2], [2, 2]])),
+    (read_pile, (BOX, "3 3/3 3")),
+    (read_pile, (BOX, [[3, 3], [3, 3], [3, 3]])),
+    (read_box, ([3, 2, 3],)),
 ]
 
 
@@ -169,6 +198,21 @@ class OneToOne(unittest.TestCase):
                 for form in ("cubes", cubes), ("stairs", stairs), ("ways", ways):
                     told[repr(form)] = pile
             self.assertEqual(len(told), 3 * many)
+
+    def test_of_all_forms_and_texts_and_on_a_desk(self):
+        for box in SMALL_BOXES:
+            desk = Desk()
+            desk.say("box " + show_box(box).replace("x", " "))
+            self.assertEqual(desk.box_now(), read_box(show_box(box)))
+            self.assertEqual(desk.say("many"), str(count_by_rows(box)))
+            for number, pile in enumerate(all_piles(box)):
+                self.assertEqual(read_pile(box, desk.say(f"nth {number}")), pile)
+                self.assertEqual(desk.say("pile it " + show_pile(box, pile)), "ok")
+                self.assertEqual(desk.say("number it"), str(number))
+                self.assertEqual([desk.say(f"way it {k}") for k in range(box[2])], ways_of(box, pile))
+                for form_box, form in forms_of(box, pile):
+                    self.assertEqual(how_many_cubes(form_box, form), how_many_cubes(box, pile))
+                    self.assertIs(alike_in_form(form_box, form, box, pile), True)
 
     def test_in_the_greatest_box(self):
         box = (6, 6, 6)
